@@ -1,0 +1,1 @@
+"""Tables of widths and the settings that give wanted levels."""
