@@ -2,6 +2,7 @@
 
 import copy
 import itertools
+import math
 import random
 
 from widthmix.limits import TOP
@@ -41,6 +42,18 @@ def all_tables(outlets, inlets, greatest):
     return itertools.product(rows, repeat=outlets)
 
 
+# (outlets, inlets, greatest level): small enough for a search of all settings.
+SMALL = ((1, 1, 3), (1, 2, 3), (2, 1, 3), (1, 3, 2), (3, 1, 2), (2, 2, 3), (3, 2, 1), (2, 3, 1))
+
+
+def small_cases():
+    """All tables of small sizes with all wants up to one more than their greatest possible width."""
+    for outlets, inlets, greatest in SMALL:
+        for table in all_tables(outlets, inlets, greatest):
+            for wants in itertools.product(range(greatest + 2), repeat=outlets):
+                yield table, wants, greatest
+
+
 def random_tables(seed, many, greatest=9):
     """Tables of all sizes with wants, of which about half can be reached."""
     source = random.Random(seed)
@@ -51,6 +64,21 @@ def random_tables(seed, many, greatest=9):
         if source.randint(0, 1):
             wants = slow_levels(table, random_levels(source, inlets, greatest))
         yield table, wants
+
+
+def crowded_tables(seed, many, distinct):
+    """Tables of six outlets and six inlets with wants of few different values and many minimal solutions."""
+    source = random.Random(seed)
+    for _ in range(many):
+        values = [source.choice((TOP, source.randint(2, TOP), source.randint(2, TOP))) for _ in range(distinct)]
+        wants = tuple(source.choice(values) for _ in range(6))
+        table = tuple(crowded_row(source, want) for want in wants)
+        spare = source.randrange(6)
+        yield tuple(row[:spare] + (want,) + row[spare + 1:] for row, want in zip(table, wants)), wants
+
+
+def crowded_row(source, want):
+    return tuple(source.choice((want, want, want, 0, want - 1, min(want + 1, TOP))) for _ in range(6))
 
 
 def random_levels(source, many, greatest):
@@ -79,22 +107,62 @@ def is_below(one, other):
     return all(a <= b for a, b in zip(one, other))
 
 
-def slow_evidence(table, wants):
-    """All evidence, picked from all tuples of the right form."""
+def minimal_of(settings):
+    """The ascending list of the settings that no other one is below; one that is below comes earlier in this order."""
+    found = []
+    for setting in sorted(settings):
+        if not any(is_below(least, setting) for least in found):
+            found.append(setting)
+    return found
+
+
+def slow_minimal(table, wants):
+    """All minimal solutions, picked from all settings with levels that are 0 or wants: others can be lowered."""
+    settings = itertools.product(sorted({0, *wants}), repeat=len(table[0]))
+    return minimal_of([setting for setting in settings if slow_levels(table, setting) == wants])
+
+
+def slow_cells(table, wants):
+    """All solutions, in tuple order, with one pair (level, how many from it on) for levels that no want tells apart."""
+    starts = sorted({0, *wants, *[want + 1 for want in wants if want < TOP]})
+    pairs = [(start, end - start) for start, end in zip(starts, [*starts[1:], TOP + 1])]
+    cells = itertools.product(pairs, repeat=len(table[0]))
+    return [cell for cell in cells if slow_levels(table, tuple(level for level, _ in cell)) == wants]
+
+
+def slow_count(cells):
+    return sum(math.prod(many for _, many in cell) for cell in cells)
+
+
+def slow_index(cells, setting):
+    """The number of solutions that stand before the setting in tuple order."""
+    index = 0
+    for cell in cells:
+        for inlet, (level, many) in enumerate(cell):
+            smaller = min(max(setting[inlet] - level, 0), many)
+            index += smaller * slow_count([cell[inlet + 1:]])
+            if not level <= setting[inlet] < level + many:
+                break
+    return index
+
+
+def slow_evidence(table, wants, tolerance=0):
+    """All evidence against the tolerance, picked from all tuples of the right form."""
     outlets, inlets = len(table), len(table[0])
     found = []
     for outlet in range(outlets):
         for reasons in itertools.product((None, *range(outlets)), repeat=inlets):
-            if all(excludes(table, wants, outlet, inlet, reasons[inlet]) for inlet in range(inlets)):
+            if all(excludes(table, wants, outlet, inlet, reasons[inlet], tolerance) for inlet in range(inlets)):
                 found.append((outlet, reasons))
     return found
 
 
-def excludes(table, wants, outlet, inlet, reason):
-    too_narrow = table[outlet][inlet] < wants[outlet]
+def excludes(table, wants, outlet, inlet, reason, tolerance):
+    need = wants[outlet] - tolerance
+    too_narrow = table[outlet][inlet] < need
     if reason is None or too_narrow:
         return reason is None and too_narrow
-    return table[reason][inlet] > wants[reason] and wants[reason] < wants[outlet]
+    return table[reason][inlet] > wants[reason] + tolerance and wants[reason] + tolerance < need
 
 
 def with_one_part_changed(value, parts):

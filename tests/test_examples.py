@@ -113,6 +113,166 @@ True
 >>> is_certificate(W, (3, 4), ('setting', (3, 0)))
 False
 """,
+    22: """
+>>> from widthmix.minimal import minimal_solutions
+>>> W = ((3, 5), (4, 2))
+>>> minimal_solutions(W, (3, 4))
+((4, 0),)
+>>> minimal_solutions(((3, 5),), (3,))
+((0, 3), (3, 0))
+""",
+    23: """
+>>> from widthmix.minimal import is_minimal
+>>> W = ((3, 5), (4, 2))
+>>> is_minimal(W, (3, 4), (4, 0))
+True
+>>> is_minimal(W, (3, 4), (4, 1))
+False
+""",
+    24: """
+>>> from widthmix.minimal import inlet_range
+>>> W = ((3, 5), (4, 2))
+>>> inlet_range(W, (3, 4), 1)
+(0, 3)
+>>> inlet_range(W, (3, 4), 2)
+raises NoInlet(2)
+""",
+    25: """
+>>> from widthmix.minimal import count_solutions
+>>> W = ((3, 5), (4, 2))
+>>> count_solutions(W, (3, 4))
+3999999999988
+>>> count_solutions(W, (4, 1))
+0
+""",
+    26: """
+>>> from widthmix.minimal import solution_at
+>>> W = ((3, 5), (4, 2))
+>>> solution_at(W, (3, 4), 5)
+(5, 1)
+>>> solution_at(W, (3, 4), -1)
+raises NoIndex(-1)
+""",
+    27: """
+>>> from widthmix.minimal import solution_index
+>>> W = ((3, 5), (4, 2))
+>>> solution_index(W, (3, 4), (5, 1))
+5
+>>> solution_index(W, (3, 4), (3, 0))
+raises NoSetting
+""",
+    28: """
+>>> from widthmix.minimal import walk_solutions
+>>> W = ((3, 5), (4, 2))
+>>> list(walk_solutions(W, (3, 4), first=3, most=3))
+[(4, 3), (5, 0), (5, 1)]
+>>> list(walk_solutions(W, (4, 1)))
+[]
+""",
+    30: """
+>>> from widthmix.costs import cost_of
+>>> W = ((3, 5), (4, 2))
+>>> cost_of(W, (4, 3), (1, -1))
+1
+>>> cost_of(W, (4, 3), (1,))
+raises NoPrices
+""",
+    31: """
+>>> from widthmix.costs import cheapest_solution
+>>> W = ((3, 5), (4, 2))
+>>> cheapest_solution(W, (3, 4), (1, -1))
+(1, (4, 3))
+>>> cheapest_solution(W, (4, 1), (1, 1))
+raises NoSolution
+""",
+    33: """
+>>> from widthmix.tolerances import setting_within
+>>> W = ((3, 5), (4, 2))
+>>> setting_within(W, (4, 1), 1) == (2, 10 ** 12)
+True
+>>> setting_within(W, (4, 1), 0)
+None
+""",
+    34: """
+>>> from widthmix.tolerances import is_evidence_against
+>>> W = ((3, 5), (4, 2))
+>>> is_evidence_against(W, (4, 1), 0, (0, (None, 1)))
+True
+>>> is_evidence_against(W, (4, 1), 1, (0, (None, 1)))
+False
+""",
+    35: """
+>>> from widthmix.tolerances import least_tolerance
+>>> W = ((3, 5), (4, 2))
+>>> least_tolerance(W, (4, 1))
+1
+""",
+    36: """
+>>> from widthmix.tolerances import tolerance_certificate
+>>> W = ((3, 5), (4, 2))
+>>> tolerance_certificate(W, (4, 1)) == (1, (2, 10 ** 12), (0, (None, 1)))
+True
+""",
+    37: """
+>>> from widthmix.tolerances import is_tolerance_certificate
+>>> W = ((3, 5), (4, 2))
+>>> is_tolerance_certificate(W, (4, 1), (1, (2, 7), (0, (None, 1))))
+True
+>>> is_tolerance_certificate(W, (3, 4), (0, (4, 0), None))
+True
+""",
+    39: """
+>>> from widthmix.products import product
+>>> W = ((3, 5), (4, 2))
+>>> product(W, W)
+((4, 3), (3, 4))
+>>> product(W, ((1, 2),))
+raises NoMatch
+""",
+    40: """
+>>> from widthmix.products import power
+>>> W = ((3, 5), (4, 2))
+>>> power(W, 3)
+((3, 4), (4, 3))
+>>> power(W, 10 ** 18)
+((4, 3), (3, 4))
+>>> power(((1, 2),), 2)
+raises NotSquare
+""",
+    41: """
+>>> from widthmix.products import index_and_period
+>>> W = ((3, 5), (4, 2))
+>>> index_and_period(W)
+(2, 2)
+""",
+    42: """
+>>> from widthmix.products import closure
+>>> W = ((3, 5), (4, 2))
+>>> closure(W)
+((4, 5), (4, 4))
+""",
+    43: """
+>>> from widthmix.products import groups_at
+>>> W = ((3, 5), (4, 2))
+>>> groups_at(W, 4)
+((0, 1),)
+>>> groups_at(W, 5)
+((0,), (1,))
+""",
+    44: """
+>>> from widthmix.products import residual
+>>> W = ((3, 5), (4, 2))
+>>> residual(W, ((4,), (2,)))
+((2,), (4,))
+""",
+    45: """
+>>> from widthmix.products import solve_product
+>>> W = ((3, 5), (4, 2))
+>>> solve_product(W, ((4,), (2,)))
+((2,), (4,))
+>>> solve_product(W, ((4,), (1,)))
+None
+""",
 }
 
 
@@ -136,10 +296,11 @@ def answer_to(statement, names):
 
 
 class ExamplesTest(unittest.TestCase):
-    """Points 6 to 20."""
+    """Points 6 to 45."""
 
     def test_sessions(self):
-        self.assertEqual(list(SESSIONS), [6, 7, 8, 9, 10, 11, 12, 14, 15, 16, 17, 18, 19, 20])
+        points = [*range(6, 13), *range(14, 21), *range(22, 29), 30, 31, *range(33, 38), *range(39, 46)]
+        self.assertEqual(list(SESSIONS), points)
         for point, session in SESSIONS.items():
             with self.subTest(point=point):
                 self.run_session(session)

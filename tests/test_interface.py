@@ -26,6 +26,35 @@ FUNCTIONS = {
         "certificate": "(table, wants)",
         "is_certificate": "(table, wants, value)",
     },
+    "minimal": {
+        "minimal_solutions": "(table, wants)",
+        "is_minimal": "(table, wants, value)",
+        "inlet_range": "(table, wants, inlet)",
+        "count_solutions": "(table, wants)",
+        "solution_at": "(table, wants, index)",
+        "solution_index": "(table, wants, value)",
+        "walk_solutions": "(table, wants, *, first=0, most=20)",
+    },
+    "costs": {
+        "cost_of": "(table, setting, prices)",
+        "cheapest_solution": "(table, wants, prices)",
+    },
+    "tolerances": {
+        "setting_within": "(table, wants, tolerance)",
+        "is_evidence_against": "(table, wants, tolerance, value)",
+        "least_tolerance": "(table, wants)",
+        "tolerance_certificate": "(table, wants)",
+        "is_tolerance_certificate": "(table, wants, value)",
+    },
+    "products": {
+        "product": "(one, other)",
+        "power": "(table, exponent)",
+        "index_and_period": "(table)",
+        "closure": "(table)",
+        "groups_at": "(table, level)",
+        "residual": "(table, target)",
+        "solve_product": "(table, target)",
+    },
 }
 
 

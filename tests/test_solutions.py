@@ -3,7 +3,7 @@ import random
 import unittest
 
 from tests.helper import (
-    ODD_VALUES, Unchanged, W, all_tables, is_below, random_tables, slow_evidence, slow_levels, slow_solutions,
+    ODD_VALUES, Unchanged, W, is_below, random_tables, slow_evidence, slow_levels, slow_solutions, small_cases,
     with_one_part_changed,
 )
 from widthmix.errors import NoSolution, NoWants
@@ -13,19 +13,10 @@ from widthmix.solutions import (
 )
 from widthmix.tables import levels_of
 
-# (outlets, inlets, greatest level): small enough for a search of all settings.
-SMALL = ((1, 1, 3), (1, 2, 3), (2, 1, 3), (1, 3, 2), (3, 1, 2), (2, 2, 3), (3, 2, 1), (2, 3, 1))
 NO_WANTS = (
     (4,), (4, 1, 1), [4, 1], (True, 4), (4, False), (-1, 4), (4, TOP + 1), (None, 4), (4, "1"), ((4,), 1), {0: 4, 1: 1},
     *ODD_VALUES,
 )
-
-
-def small_cases():
-    for outlets, inlets, greatest in SMALL:
-        for table in all_tables(outlets, inlets, greatest):
-            for wants in itertools.product(range(greatest + 2), repeat=outlets):
-                yield table, wants, greatest
 
 
 class SearchTest(unittest.TestCase):

@@ -10,11 +10,16 @@ def upper_setting(table, wants):
     """Return the greatest setting for which no level exceeds the want."""
     if not are_wants(table, wants):
         raise NoWants()
-    return tuple([upper_level(table, wants, inlet) for inlet in range(len(table[0]))])
+    return highest_setting(table, wants)
 
 
-def upper_level(table, wants, inlet):
-    return min([want for row, want in zip(table, wants) if row[inlet] > want], default=TOP)
+def highest_setting(table, caps):
+    """Return the greatest setting for which no level exceeds its cap."""
+    return tuple([highest_level(table, caps, inlet) for inlet in range(len(table[0]))])
+
+
+def highest_level(table, caps, inlet):
+    return min([cap for row, cap in zip(table, caps) if row[inlet] > cap], default=TOP)
 
 
 def is_solution(table, wants, value):
@@ -25,52 +30,75 @@ def is_solution(table, wants, value):
 
 def find_evidence(table, wants):
     """Return evidence that there is no solution, or None if there is one."""
-    levels = levels_of(table, upper_setting(table, wants))
+    if not are_wants(table, wants):
+        raise NoWants()
+    return evidence_between(table, wants, wants)
+
+
+def evidence_between(table, needs, caps):
+    """Return evidence that no setting gives each outlet its need and nothing above its cap, or None if one does."""
+    levels = levels_of(table, highest_setting(table, caps))
     for outlet in range(len(table)):
-        if levels[outlet] < wants[outlet]:
-            return (outlet, reasons_of(table, wants, outlet))
+        if levels[outlet] < needs[outlet]:
+            return (outlet, reasons_of(table, needs, caps, outlet))
     return None
 
 
-def reasons_of(table, wants, outlet):
-    return tuple([reason_of(table, wants, outlet, inlet) for inlet in range(len(table[0]))])
+def reasons_of(table, needs, caps, outlet):
+    return tuple([reason_of(table, needs, caps, outlet, inlet) for inlet in range(len(table[0]))])
 
 
-def reason_of(table, wants, outlet, inlet):
-    if table[outlet][inlet] < wants[outlet]:
+def reason_of(table, needs, caps, outlet, inlet):
+    if table[outlet][inlet] < needs[outlet]:
         return None
-    # The upper setting leaves this outlet short, so some outlet holds the inlet down.
-    return [number for number in range(len(table)) if is_reason(table, wants, outlet, inlet, number)][0]
+    # The highest setting leaves this outlet short, so some outlet holds the inlet down.
+    return [number for number in range(len(table)) if is_reason(table, needs, caps, outlet, inlet, number)][0]
 
 
 def is_evidence(table, wants, value):
     """Return whether value is evidence that there is no solution."""
-    if not are_wants(table, wants) or not is_tuple_of(value, 2):
+    return are_wants(table, wants) and is_evidence_between(table, wants, wants, value)
+
+
+def is_evidence_between(table, needs, caps, value):
+    """Return whether value is evidence that no setting gives each outlet its need and nothing above its cap."""
+    if not is_tuple_of(value, 2):
         return False
     outlet, reasons = value
-    return is_number_below(outlet, len(table)) and are_reasons(table, wants, outlet, reasons)
+    return is_number_below(outlet, len(table)) and are_reasons(table, needs, caps, outlet, reasons)
 
 
-def are_reasons(table, wants, outlet, reasons):
+def are_reasons(table, needs, caps, outlet, reasons):
     if not is_tuple_of(reasons, len(table[0])):
         return False
-    return all([is_reason(table, wants, outlet, inlet, reason) for inlet, reason in enumerate(reasons)])
+    return all([is_reason(table, needs, caps, outlet, inlet, reason) for inlet, reason in enumerate(reasons)])
 
 
-def is_reason(table, wants, outlet, inlet, reason):
-    if table[outlet][inlet] < wants[outlet]:
+def is_reason(table, needs, caps, outlet, inlet, reason):
+    if table[outlet][inlet] < needs[outlet]:
         return reason is None
     if not is_number_below(reason, len(table)):
         return False
-    return wants[reason] < table[reason][inlet] and wants[reason] < wants[outlet]
+    return caps[reason] < table[reason][inlet] and caps[reason] < needs[outlet]
 
 
 def greatest_solution(table, wants):
     """Return the solution that every solution is below."""
-    evidence = find_evidence(table, wants)
+    if not are_wants(table, wants):
+        raise NoWants()
+    return highest_solution(table, wants)
+
+
+def highest_solution(table, wants):
+    """Return the greatest solution for wants that need no check."""
+    check_solvable(table, wants)
+    return highest_setting(table, wants)
+
+
+def check_solvable(table, wants):
+    evidence = evidence_between(table, wants, wants)
     if evidence is not None:
         raise NoSolution(evidence)
-    return upper_setting(table, wants)
 
 
 def certificate(table, wants):
