@@ -69,6 +69,11 @@ class ErrorsTest(unittest.TestCase):
                 self.assertIs(getattr(error, attribute), value, name)
                 self.assertEqual(list(vars(error)), [attribute])
 
+    def test_message_is_the_name_of_the_class(self):
+        # The log of a session and the answers of a console are made of these messages.
+        for name in NAMES:
+            self.assertEqual(str(made(name)), name)
+
     def test_argument_is_needed(self):
         for name in WITH_ARGUMENT:
             with self.assertRaises(TypeError):

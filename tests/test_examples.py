@@ -273,6 +273,242 @@ raises NotSquare
 >>> solve_product(W, ((4,), (1,)))
 None
 """,
+    47: """
+>>> from widthmix.agreement import agree_at
+>>> agree_at(((3, 5),), ((4, 2),), (9, 4))
+True
+>>> W = ((3, 5), (4, 2))
+>>> agree_at(((3, 5),), W, (9, 4))
+raises NoMatch
+""",
+    48: """
+>>> from widthmix.agreement import common_setting
+>>> common_setting(((3, 5),), ((4, 2),), (9, 9))
+(9, 4)
+""",
+    49: """
+>>> from widthmix.agreement import find_lowerings
+>>> find_lowerings(((3, 5),), ((4, 2),), (9, 9))
+((0, 0, 1, 4),)
+""",
+    50: """
+>>> from widthmix.agreement import lowerings_hold
+>>> lowerings_hold(((3, 5),), ((4, 2),), (9, 9), ((0, 0, 1, 4),))
+True
+>>> lowerings_hold(((3, 5),), ((4, 2),), (9, 9), ())
+False
+""",
+    51: """
+>>> from widthmix.agreement import fixed_setting
+>>> W = ((3, 5), (4, 2))
+>>> fixed_setting(W, (9, 9))
+(4, 4)
+""",
+    53: """
+>>> from widthmix.sessions import Session
+>>> W = ((3, 5), (4, 2))
+>>> s = Session(W, (4, 1))
+>>> str(s)
+'2 outlets, 2 inlets, tolerance 1'
+>>> Session(W, (4,))
+raises NoWants
+""",
+    54: """
+>>> from widthmix.sessions import GuardedSession
+>>> W = ((3, 5), (4, 2))
+>>> s = GuardedSession(W, (3, 4))
+>>> s.set_want(1, 5)
+raises Blocked
+>>> s = GuardedSession(W, (3, 4))
+>>> s.apply_all([('set_want', 1, 5), ('set_want', 1, 4)])
+raises Failed(0)
+""",
+    55: """
+>>> from widthmix.sessions import Session
+>>> W = ((3, 5), (4, 2))
+>>> s = Session(W, (3, 4))
+>>> s.set_width(0, 1, 0)
+>>> s.table()
+((3, 0), (4, 2))
+""",
+    56: """
+>>> from widthmix.sessions import Session
+>>> W = ((3, 5), (4, 2))
+>>> s = Session(W, (3, 4))
+>>> s.set_want(2, 5)
+raises NoOutlet(2)
+""",
+    57: """
+>>> from widthmix.sessions import Session
+>>> W = ((3, 5), (4, 2))
+>>> s = Session(W, (3, 4))
+>>> s.add_outlet(6, (7, 0))
+>>> (s.table(), s.wants())
+(((3, 5), (4, 2), (7, 0)), (3, 4, 6))
+""",
+    58: """
+>>> from widthmix.sessions import Session
+>>> W = ((3, 5), (4, 2))
+>>> s = Session(W, (3, 4))
+>>> s.remove_outlet(0)
+>>> (s.table(), s.wants())
+(((4, 2),), (4,))
+""",
+    59: """
+>>> from widthmix.sessions import Session
+>>> W = ((3, 5), (4, 2))
+>>> s = Session(W, (3, 4))
+>>> s.add_inlet((6, 0))
+>>> s.table()
+((3, 5, 6), (4, 2, 0))
+""",
+    60: """
+>>> from widthmix.sessions import Session
+>>> W = ((3, 5), (4, 2))
+>>> s = Session(W, (3, 4))
+>>> s.remove_inlet(0)
+>>> s.table()
+((5,), (2,))
+""",
+    61: """
+>>> from widthmix.sessions import Session
+>>> W = ((3, 5), (4, 2))
+>>> s = Session(W, (3, 4))
+>>> s.undo()
+raises NothingToUndo
+""",
+    62: """
+>>> from widthmix.sessions import Session
+>>> W = ((3, 5), (4, 2))
+>>> s = Session(W, (3, 4))
+>>> s.apply_all([('set_want', 0, 9), ('remove_inlet', 2)])
+raises Failed(1)
+>>> s = Session(W, (3, 4))
+>>> s.apply_all([('set_want', 0, 9), ('remove_inlet', 1)])
+>>> (len(s), s.wants(), s.table())
+(2, (9, 4), ((3,), (4,)))
+""",
+    63: """
+>>> from widthmix.sessions import Session
+>>> W = ((3, 5), (4, 2))
+>>> s = Session(W, (3, 4))
+>>> s.set_want(0, 9)
+>>> s.undo()
+>>> s.log()
+(('set_want', 'done'), ('undo', 'done'))
+""",
+    64: """
+>>> from widthmix.sessions import Session
+>>> W = ((3, 5), (4, 2))
+>>> s = Session(W, (3, 4))
+>>> s.set_want(0, 9)
+>>> (s.wants(), s.wants(at=0), s.table())
+((9, 4), (3, 4), ((3, 5), (4, 2)))
+""",
+    65: """
+>>> from widthmix.sessions import Session
+>>> W = ((3, 5), (4, 2))
+>>> Session(W, (4, 1)).certificate()
+('evidence', (0, (None, 1)))
+""",
+    66: """
+>>> from widthmix.sessions import Session
+>>> W = ((3, 5), (4, 2))
+>>> s = Session(W, (3, 4))
+>>> s.minimal()
+((4, 0),)
+""",
+    67: """
+>>> from widthmix.sessions import Session
+>>> W = ((3, 5), (4, 2))
+>>> s = Session(W, (3, 4))
+>>> s.clone() == s
+True
+""",
+    68: """
+>>> from widthmix.sessions import Session
+>>> W = ((3, 5), (4, 2))
+>>> s = Session(W, (3, 4))
+>>> (s.preview([('set_want', 0, 4), ('set_want', 1, 1)]), s.wants(), s.log())
+(('evidence', (0, (None, 1))), (3, 4), ())
+""",
+    69: """
+>>> from widthmix.sessions import GuardedSession
+>>> s = GuardedSession.from_text('3: 3 5\\n4: 4 2\\n')
+>>> str(s)
+'guarded, 2 outlets, 2 inlets, tolerance 0'
+""",
+    70: """
+>>> from widthmix.sessions import Session
+>>> Session.operation_names()
+('add_inlet', 'add_outlet', 'remove_inlet', 'remove_outlet', 'set_want', 'set_width')
+""",
+    71: """
+>>> from widthmix.sessions import Session
+>>> W = ((3, 5), (4, 2))
+>>> s = Session(W, (4, 1))
+>>> s.note = 'first'
+>>> (Session.LIMIT, s.gap, s.note)
+(60, 1, 'first')
+>>> s = Session(W, (4, 1))
+>>> s.annotate(7)
+raises NoNote(7)
+""",
+    74: """
+>>> from widthmix.texts import format_data
+>>> W = ((3, 5), (4, 2))
+>>> format_data(W, (3, 4))
+'3: 3 5\\n4: 4 2\\n'
+""",
+    75: """
+>>> from widthmix.texts import parse_data
+>>> parse_data('3: 3 5\\n4: 4 2\\n')
+(((3, 5), (4, 2)), (3, 4))
+>>> parse_data('3: 3 5\\n4: 4\\n')
+raises BadText(1)
+>>> parse_data('')
+raises BadText(0)
+""",
+    76: """
+>>> from widthmix.texts import format_setting
+>>> format_setting((4, 0))
+'4 0'
+""",
+    77: """
+>>> from widthmix.texts import parse_setting
+>>> parse_setting('4 0')
+(4, 0)
+>>> parse_setting('4  0')
+raises BadText(0)
+""",
+    78: """
+>>> from widthmix.consoles import Console
+>>> from widthmix.sessions import Session
+>>> W = ((3, 5), (4, 2))
+>>> s = Session(W, (3, 4))
+>>> c = Console(s)
+>>> answer = c.execute('want 0 5')
+>>> (answer, s.wants())
+('done', (5, 4))
+""",
+    79: """
+>>> from widthmix.consoles import Console
+>>> from widthmix.sessions import Session
+>>> W = ((3, 5), (4, 2))
+>>> c = Console(Session(W, (4, 1)))
+>>> (c.execute('evidence'), c.execute('minimal'), c.execute('levels 4 1'), c.execute('count 1'))
+('0 - 1', 'error NoSolution', '3 4', 'syntax error')
+""",
+    80: """
+>>> from widthmix.consoles import Console
+>>> from widthmix.sessions import Session
+>>> W = ((3, 5), (4, 2))
+>>> c = Console(Session(W, (3, 4)))
+>>> one = c.execute('undo')
+>>> other = c.execute(None)
+>>> c.history()
+(('undo', 'error NothingToUndo'), (None, 'syntax error'))
+""",
 }
 
 
@@ -296,10 +532,11 @@ def answer_to(statement, names):
 
 
 class ExamplesTest(unittest.TestCase):
-    """Points 6 to 45."""
+    """Points 6 to 80."""
 
     def test_sessions(self):
-        points = [*range(6, 13), *range(14, 21), *range(22, 29), 30, 31, *range(33, 38), *range(39, 46)]
+        points = [*range(6, 13), *range(14, 21), *range(22, 29), 30, 31, *range(33, 38), *range(39, 46),
+                  *range(47, 52), *range(53, 72), *range(74, 81)]
         self.assertEqual(list(SESSIONS), points)
         for point, session in SESSIONS.items():
             with self.subTest(point=point):

@@ -150,7 +150,7 @@ class NamesTest(unittest.TestCase):
         for file_name, tree in trees().items():
             outer = {name for node in tree.body if isinstance(node, (ast.ImportFrom, ast.ClassDef))
                      for name in ([node.name] if isinstance(node, ast.ClassDef) else [a.name for a in node.names])}
-            inner = [name for node in tree.body if isinstance(node, ast.FunctionDef)
+            inner = [name for node in ast.walk(tree) if isinstance(node, ast.FunctionDef)
                      for part in node.body + [node.args]
                      for name in bound_names(ast.Module(body=[part], type_ignores=[]))]
             self.assertEqual(sorted(outer & set(inner)), [], file_name)
@@ -206,11 +206,108 @@ class ExpressionsTest(unittest.TestCase):
             if node.name.startswith("_"):
                 self.assertIn(node.name, SPECIAL_METHODS, name)
 
+    def test_generators_where_a_class_has_an_equality(self):
+        for name, node in nodes(ast.Call):
+            if isinstance(node.func, ast.Name) and node.func.id in ("any", "all", "min", "max", "sum", "sorted"):
+                for part in node.args:
+                    self.assertNotIsInstance(part, ast.GeneratorExp, (name, node.lineno))
+
+    def test_caught_errors_are_own_ones(self):
+        own = {node.name for node in trees()["errors"].body if isinstance(node, ast.ClassDef)}
+        for name, node in nodes(ast.ExceptHandler):
+            self.assertIn(node.type.id, own, (name, node.lineno))
+
     def test_sets_are_not_made_at_module_level(self):
         for file_name, tree in trees().items():
             for node in tree.body:
                 if isinstance(node, ast.Assign):
                     self.assertNotIsInstance(node.value, (ast.Set, ast.SetComp, ast.Call, ast.ListComp), file_name)
+
+
+def classes():
+    return {node.name: node for _, node in nodes(ast.ClassDef)}
+
+
+def methods_of(node):
+    return [part for part in node.body if isinstance(part, ast.FunctionDef)]
+
+
+def decorators_of(node):
+    return [ast.unparse(part) for part in node.decorator_list]
+
+
+def stored_attributes(node):
+    return {part.attr for part in ast.walk(node) if isinstance(part, ast.Attribute) and isinstance(part.ctx, ast.Store)}
+
+
+class ClassesTest(unittest.TestCase):
+    def test_class_values_are_written_out(self):
+        for name, node in nodes(ast.ClassDef):
+            for part in node.body:
+                if isinstance(part, ast.Assign):
+                    self.assertIsInstance(part.value, ast.Constant, name)
+                    self.assertNotEqual(name, "errors")
+
+    def test_decorators(self):
+        for name, node in nodes(ast.FunctionDef):
+            for word in decorators_of(node):
+                self.assertIn(word, ("property", "staticmethod", "classmethod", f"{node.name}.setter"), name)
+
+    def test_no_name_is_a_method_and_an_attribute(self):
+        methods = {method.name for node in classes().values() for method in methods_of(node)
+                   if not any("property" in word or "setter" in word for word in decorators_of(method))}
+        attributes = {name for node in classes().values() for name in stored_attributes(node)}
+        self.assertEqual(sorted(methods & attributes), [])
+
+    def test_nothing_is_read_off_a_class_by_name(self):
+        # Otherwise NoNote could have no attribute with the name of the property note.
+        own = classes()
+        for name, node in nodes(ast.Attribute):
+            if isinstance(node.value, ast.Name):
+                self.assertNotIn(node.value.id, own, (name, node.lineno))
+
+    def test_returns_of_special_methods(self):
+        for name, node in nodes(ast.FunctionDef):
+            found = [part.value for part in ast.walk(node) if isinstance(part, ast.Return)]
+            if node.name == "__len__":
+                self.assertTrue(all(ast.unparse(value).startswith("len(") for value in found), name)
+            if node.name == "__str__":
+                self.assertTrue(all(isinstance(value, (ast.Constant, ast.JoinedStr)) for value in found), name)
+
+    def test_special_methods_and_properties_change_nothing(self):
+        functions = self.functions()
+        for name in self.reached(functions):
+            for node in functions[name]:
+                for part in ast.walk(node):
+                    self.assertNotIsInstance(part, (ast.AugAssign, ast.Delete, ast.NamedExpr), name)
+                self.assertEqual(stored_attributes(node), set(), name)
+                changed = [part for part in ast.walk(node)
+                           if isinstance(part, ast.Subscript) and not isinstance(part.ctx, ast.Load)]
+                self.assertEqual(changed, [], name)
+
+    def functions(self):
+        """All functions and methods by their names; those of one name count together."""
+        found = {}
+        for _, node in nodes(ast.FunctionDef):
+            if not any(word.endswith(".setter") for word in decorators_of(node)):
+                found.setdefault(node.name, []).append(node)
+        return found
+
+    def reached(self, functions):
+        """The names of all functions and methods that properties and special methods call, directly or not."""
+        own = classes()
+        names = [name for name, found in functions.items() if name in ("__eq__", "__str__", "__len__")
+                 or any("property" in decorators_of(node) for node in found)]
+        for name in names:
+            for part in [part for node in functions[name] for part in ast.walk(node) if isinstance(part, ast.Call)]:
+                called = part.func.attr if isinstance(part.func, ast.Attribute) else part.func.id
+                if called in own:
+                    # An error without arguments has nothing to assign.
+                    self.assertNotIn("__init__", [method.name for method in methods_of(own[called])], name)
+                elif called in functions and called not in names:
+                    names.append(called)
+        self.assertIn("least_tolerance", names)
+        return names
 
 
 if __name__ == "__main__":

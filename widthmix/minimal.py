@@ -3,7 +3,7 @@
 from widthmix.checks import is_number_below
 from widthmix.errors import NoIndex, NoInlet, NoSetting
 from widthmix.solutions import check_solvable, highest_setting, highest_solution, is_solution
-from widthmix.tables import levels_of
+from widthmix.tables import levels_of, replaced
 
 
 def minimal_solutions(table, wants):
@@ -27,11 +27,7 @@ def least_raised(setting, inlets, want):
     """Return the setting if one of the inlets has the want, else the settings with one of them raised to it."""
     if any([setting[inlet] >= want for inlet in inlets]):
         return [setting]
-    return [with_level(setting, inlet, want) for inlet in inlets]
-
-
-def with_level(setting, inlet, level):
-    return setting[:inlet] + (level,) + setting[inlet + 1:]
+    return [replaced(setting, inlet, want) for inlet in inlets]
 
 
 def is_minimal(table, wants, value):
@@ -39,7 +35,7 @@ def is_minimal(table, wants, value):
     if not is_solution(table, wants, value):
         return False
     # Whatever lies between two solutions is a solution, so it is enough to try one step down.
-    lowered = [with_level(value, inlet, level - 1) for inlet, level in enumerate(value) if level > 0]
+    lowered = [replaced(value, inlet, level - 1) for inlet, level in enumerate(value) if level > 0]
     return not any([is_solution(table, wants, setting) for setting in lowered])
 
 
@@ -49,7 +45,7 @@ def inlet_range(table, wants, inlet):
         raise NoInlet(inlet)
     upper = highest_solution(table, wants)
     # What the other inlets do not give at their greatest levels, this one must give.
-    levels = levels_of(table, with_level(upper, inlet, 0))
+    levels = levels_of(table, replaced(upper, inlet, 0))
     least = max([want for level, want in zip(levels, wants) if level < want], default=0)
     return (least, upper[inlet])
 

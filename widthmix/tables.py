@@ -60,6 +60,10 @@ def without(parts, number):
     return parts[:number] + parts[number + 1:]
 
 
+def replaced(parts, number, part):
+    return parts[:number] + (part,) + parts[number + 1:]
+
+
 def remove_outlet(table, outlet):
     """Return the table without that outlet."""
     if not is_number_below(outlet, len(table)):

@@ -11,6 +11,11 @@ def setting_within(table, wants, tolerance):
     """Return the greatest setting within the tolerance, or None if there is none."""
     if not is_level(tolerance):
         raise NoLevel(tolerance)
+    return highest_within(table, wants, tolerance)
+
+
+def highest_within(table, wants, tolerance):
+    """Return the greatest setting within a tolerance that needs no check, or None if there is none."""
     highest = highest_setting(table, raised(wants, tolerance))
     return highest if is_within(table, wants, tolerance, highest) else None
 
@@ -29,7 +34,7 @@ def least_tolerance(table, wants):
     high = TOP
     while low < high:
         middle = (low + high) // 2
-        if setting_within(table, wants, middle) is None:
+        if highest_within(table, wants, middle) is None:
             low = middle + 1
         else:
             high = middle
@@ -39,7 +44,7 @@ def least_tolerance(table, wants):
 def tolerance_certificate(table, wants):
     """Return the least tolerance, the greatest setting within it, and evidence against the next smaller one."""
     tolerance = least_tolerance(table, wants)
-    return (tolerance, setting_within(table, wants, tolerance), evidence_below(table, wants, tolerance))
+    return (tolerance, highest_within(table, wants, tolerance), evidence_below(table, wants, tolerance))
 
 
 def is_tolerance_certificate(table, wants, value):
